@@ -513,6 +513,20 @@ func TestLocked(t *testing.T) {
 	r.wantBucket("full", "ann", 5, 1035)
 }
 
+// P1002: a record that no offer can be made of lets nobody begin.
+func TestNoOffer(t *testing.T) {
+	r := newRig(t)
+	conn := r.s.Open()
+	bare := r.record(api.Srp, "ann")
+	bare.Salt, bare.Tokens = nil, 5
+	r.v.Put(bare)
+	r.wantError("no Salt", r.say(conn, r.prover(api.Srp, "ann", nil).hello), api.Refused)
+	r.wantBucket("charged", "ann", 4, 0)
+	if r.s.Runs() != 0 {
+		t.Errorf("%d runs", r.s.Runs())
+	}
+}
+
 // P1002: where Offer is false, what was charged stays.
 func TestOfferRefused(t *testing.T) {
 	r := newRig(t)

@@ -132,9 +132,9 @@ func TestExponentInto(t *testing.T) {
 			}
 		}
 	}
-	// of these the first square is 0, or 1
+	// of these the first square is 0, or 1; of the last one the least that it may be
 	g := must(t, 12)
-	for text, n := range map[string]int{"2075": 4017, "2925": 2113, "3290": 3952, "3544": 1518, "4012": 1120} {
+	for text, n := range map[string]int{"2075": 4017, "2925": 2113, "3290": 3952, "3544": 1518, "4012": 1120, "2389": 2} {
 		if got := group.Into(g, []byte(text)); got != limb.From(n) {
 			t.Errorf("Into of %q: %v", text, got)
 		}

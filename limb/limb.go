@@ -87,7 +87,9 @@ func Mul(a, b api.Num) (lo, hi api.Num) {
 		end := i + api.Limbs
 		all[end] = uint32(along(all[i:end:end], b[:], 0, times(digit)))
 	}
-	return api.Num(all[:api.Limbs]), api.Num(all[api.Limbs:])
+	copy(lo[:], all[:api.Limbs])
+	copy(hi[:], all[api.Limbs:])
+	return lo, hi
 }
 
 // Pick is a or b, without a choice that a clock could tell.

@@ -45,16 +45,13 @@ func back(limbs []uint32, by int) api.Num {
 	return a
 }
 
-// reduce leaves in window, which has one limb more than divisor, what is left of it by divisor.
+// reduce leaves in window, which has one limb more than divisor, what is left of it by divisor; its highest limb is
+// nothing any more. Where a guess was too great, so little was owed that it is paid once the lower limbs carry.
 func reduce(window, divisor []uint32) {
-	n := len(divisor)
 	owed := along(window, divisor, debt{}, less(guess(window, divisor)))
-	var lent, carry uint32
-	window[n], lent = bits.Sub32(window[n], uint32(owed.carry), owed.lent)
+	_, lent := bits.Sub32(window[len(divisor)], uint32(owed.carry), owed.lent)
 	for lent != 0 {
-		carry = along(window, divisor, 0, bits.Add32)
-		window[n], carry = bits.Add32(window[n], 0, carry)
-		lent -= carry
+		lent -= along(window, divisor, 0, bits.Add32)
 	}
 }
 

@@ -23,11 +23,8 @@ func (d *device) fail(after int) {
 	d.left = after
 }
 
-// step does one to a cell, unless the device dies ahead of it.
+// step does one to a cell, unless the device dies ahead of it. A dead one is not asked.
 func (d *device) step(place int, do func(c *api.Cell)) bool {
-	if d.dead {
-		return false
-	}
 	if d.fails && d.left == 0 {
 		d.dead = true
 		return false

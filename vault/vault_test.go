@@ -269,8 +269,8 @@ func TestTornBounds(t *testing.T) {
 		v.Fail(1)
 		v.Put(ann())
 		v.Again(c.torn)
-		if _, is := v.Get("ann"); is != c.is {
-			t.Errorf("Again(%v): %v", c.torn, is)
+		if _, is := v.Get("ann"); is != c.is || (safe(v, 0) != "") != c.is {
+			t.Errorf("Again(%v): %v, %s", c.torn, is, safe(v, 0))
 		}
 	}
 }

@@ -159,6 +159,7 @@ func TestBounds(t *testing.T) {
 		{11, func(m *api.Msg) { m.A = api.Num{1<<32 - 1} }, true},
 		{11, func(m *api.Msg) { m.A = api.Num{0, 1} }, false},
 		{12, func(m *api.Msg) { m.B = api.Num{7: 1} }, false},
+		{12, func(m *api.Msg) { m.B = api.Num{0, 1} }, false},
 		{21, func(m *api.Msg) { m.Salt = fill(17, 1) }, false},
 		{22, func(m *api.Msg) { m.Seal = fill(48, 1) }, true},
 		{22, func(m *api.Msg) { m.Seal = fill(49, 1) }, false},
@@ -303,7 +304,7 @@ func TestBadStream(t *testing.T) {
 		first string
 		bad   bool
 	}{
-		{"", false}, {"\x00", false}, {"\x01", false}, {"\x00\xc8", false}, {"\x00\xc8\x07", false}, {"\x00\xc9", true}, {"\x01\x00", true}, {"\xff\xff", true},
+		{"", false}, {"\x00", false}, {"\x01", false}, {"\x00\xc8", false}, {"\x00\xc8\x07", false}, {"\x00\xc9", true}, {"\x01\x00", true}, {"\x01\x05", true}, {"\xff\xff", true},
 		{"\x00\x00", true}, {"\x00\x01\x00", true}, {"\x00\x01\x0d", true}, {"\x00\x02\x07", false}, {"\x00\x02\x07\x00", true},
 	} {
 		s := wire.New()
@@ -426,6 +427,7 @@ func TestRecordBounds(t *testing.T) {
 		{func(r *api.Record) { r.V = api.Num{0, 1} }, false},
 		{func(r *api.Record) { r.Key = api.Num{1<<32 - 1} }, true},
 		{func(r *api.Record) { r.Key = api.Num{7: 1} }, false},
+		{func(r *api.Record) { r.Key = api.Num{0, 1} }, false},
 		{func(r *api.Record) { r.Tokens = 0 }, true},
 		{func(r *api.Record) { r.Tokens = 255 }, true},
 		{func(r *api.Record) { r.Tokens = 256 }, false},

@@ -452,6 +452,30 @@ func TestCrash(t *testing.T) {
 	login(t, w, 2, api.Srp)
 }
 
+// P1202: a new server has no runs, and its time begins anew.
+func TestCrashServer(t *testing.T) {
+	w := newWorld("a", "b", "c", "d", "e")
+	w.Tick(1000)
+	w.Enrol(4, api.Srp)
+	settle(w, 4)
+	if r, _ := w.Record(4); r.At != 1000 {
+		t.Errorf("at %d", r.At)
+	}
+	for i := range 4 {
+		w.Login(i, api.Opq)
+		w.Up(i)
+	}
+	w.Login(4, api.Srp)
+	settle(w, 4)
+	want(t, "four runs", w, 4, false, false, api.Busy)
+	w.Crash(nil)
+	login(t, w, 4, api.Srp)
+	in(t, w, 0, api.Srp)
+	if r, _ := w.Record(0); r.At != 0 {
+		t.Errorf("at %d behind it", r.At)
+	}
+}
+
 // P1202: Fail, and what is torn
 func TestFail(t *testing.T) {
 	for after := range 3 {
